@@ -1,0 +1,124 @@
+"""The plain machine: a core and a store of its own, alone."""
+
+from guestsalone.checks import check_number, check_word
+from guestsalone.core import Core, is_kind, may_arrive
+from guestsalone.errors import NoImage, NoLog
+from guestsalone.images import image_of, is_eight, is_image
+from guestsalone.words import is_count
+
+LONGEST_LOG = 2400
+LAST_END = 20000
+
+
+class PlainStore:
+    """Eight rooms of eight cells."""
+
+    def __init__(self, rooms):
+        if not is_eight(rooms):
+            raise NoImage(rooms)
+        self._rooms = [list(words) for words in rooms]
+
+    def read_cell(self, room, cell):
+        check_number(room, 0, 7)
+        check_number(cell, 0, 7)
+        return self._rooms[room][cell]
+
+    def write_cell(self, room, cell, word):
+        check_number(room, 0, 7)
+        check_number(cell, 0, 7)
+        check_word(word)
+        self._rooms[room][cell] = word
+
+    def room(self, number):
+        check_number(number, 0, 7)
+        return list(self._rooms[number])
+
+    def rooms(self):
+        return tuple([tuple(words) for words in self._rooms])
+
+    def twin(self):
+        return PlainStore(self.rooms())
+
+
+class PlainMachine:
+    """An image that runs alone, with the log of what came to it and the trail of what its steps told."""
+
+    def __init__(self, image):
+        if not is_image(image):
+            raise NoImage(image)
+        rooms, blocks = image
+        self._core = Core(blocks)
+        self._store = PlainStore(rooms)
+        self._log = []
+        self._trail = []
+
+    def step(self):
+        row = self._core.step(self._store)
+        if row is not None:
+            self._trail.append(row)
+        return row
+
+    def arrive(self, kind, word):
+        self._core.arrive(kind, word)
+        self._log.append((self._core.time(), kind, word))
+
+    def core(self):
+        return self._core.twin()
+
+    def store(self):
+        return self._store.twin()
+
+    def time(self):
+        return self._core.time()
+
+    def state(self):
+        return self._core.state()
+
+    def log(self):
+        return list(self._log)
+
+    def trail(self):
+        return list(self._trail)
+
+    def twin(self):
+        other = PlainMachine(image_of())
+        other._core = self._core.twin()
+        other._store = self._store.twin()
+        other._log = list(self._log)
+        other._trail = list(self._trail)
+        return other
+
+
+def is_log(thing):
+    """Whether it is a list of at most 2,400 arrivals whose times never fall."""
+    if not isinstance(thing, (list, tuple)) or len(thing) > LONGEST_LOG:
+        return False
+    if not all([_is_arrival(row) for row in thing]):
+        return False
+    times = [row[0] for row in thing]
+    return times == sorted(times)
+
+
+def run_alone(image, log=(), *, end=100):
+    """A machine of the image that ran by the log until it came to the end, stood still, or was idle."""
+    machine = PlainMachine(image)
+    if not is_log(log):
+        raise NoLog(log)
+    check_number(end, 0, LAST_END)
+    come = 0
+    while machine.state() not in ("ended", "fell"):
+        while come < len(log) and log[come][0] <= machine.time():
+            _, kind, word = log[come]
+            machine.arrive(kind, word)
+            come += 1
+        if machine.time() >= end or machine.state() == "idle":
+            return machine
+        machine.step()
+    return machine
+
+
+def _is_arrival(thing):
+    if not isinstance(thing, tuple) or len(thing) != 3:
+        return False
+    time, kind, word = thing
+    return is_count(time) and is_kind(kind) and may_arrive(kind, word)

@@ -1,0 +1,223 @@
+"""Rules of the language subset that a program can look at: L1 to L28, as far as they go here."""
+
+import ast
+import pathlib
+import unittest
+
+PACKAGE = pathlib.Path(__file__).resolve().parent.parent / "guestsalone"
+FILES = sorted(PACKAGE.glob("*.py"))
+BUILTINS = set(
+    "len range enumerate zip min max sum abs sorted reversed int str bool list tuple dict set isinstance ord repr any"
+    " all divmod iter next map Exception ValueError TypeError KeyError IndexError LookupError ZeroDivisionError".split()
+)
+PYTHONS = set(dir(__builtins__) if not isinstance(__builtins__, dict) else __builtins__)
+METHODS = set(
+    "append clear copy count endswith extend find get index insert isalnum isalpha isdigit islower isspace isupper"
+    " items join keys ljust lower lstrip partition pop remove replace reverse rfind rjust rpartition rsplit rstrip"
+    " setdefault split splitlines startswith strip update upper values zfill bit_length add discard".split()
+)
+DOUBLE = {"__init__", "__eq__", "__repr__", "__str__", "__len__"}
+BARRED = set(
+    "register mro elements open input law version_info with_traceback add_note attrgetter breakpoint builtins compile"
+    " copyright credits delattr dir eval exec exit gc getattr globals hasattr help id importlib license locals"
+    " methodcaller os quit setattr super type vars sys typing enum Enum ABC namedtuple NamedTuple Protocol Generic"
+    " Flag".split()
+)
+STARTS = ("_wall", "_pe_", "_dcw_", "_enum_", "_cm_", "_twin_re_", "_lay_", "_law_", "_stub_", "_sre")
+AT_ONCE = {"zip", "enumerate", "reversed", "range", "map"}
+STATEMENTS = (ast.Global, ast.AsyncFunctionDef, ast.AsyncFor, ast.AsyncWith, ast.Await, ast.TryStar)
+
+
+def parents_of(tree):
+    return {child: node for node in ast.walk(tree) for child in ast.iter_child_nodes(node)}
+
+
+def bound(node):
+    """The names that a node binds."""
+    if isinstance(node, (ast.FunctionDef, ast.ClassDef)):
+        return [node.name]
+    if isinstance(node, ast.arg):
+        return [node.arg]
+    if isinstance(node, ast.Name) and not isinstance(node.ctx, ast.Load):
+        return [node.id]
+    if isinstance(node, ast.ImportFrom):
+        return [found.asname or found.name for found in node.names]
+    return []
+
+
+class LanguageTest(unittest.TestCase):
+    def each(self, *kinds):
+        for path in FILES:
+            tree = ast.parse(path.read_text())
+            for node in ast.walk(tree):
+                if isinstance(node, kinds or ast.AST):
+                    yield f"{path.name}:{getattr(node, 'lineno', 0)}", node
+
+    def test_files(self):
+        self.assertTrue(FILES)
+        others = [path.name for path in PACKAGE.iterdir() if path.suffix != ".py" and path.name != "__pycache__"]
+        self.assertEqual(others, [])
+        self.assertTrue((PACKAGE / "__init__.py").exists())
+        for path in FILES:
+            text = path.read_text()
+            self.assertTrue(path.stem == path.stem.lower())
+            self.assertTrue(all(sign == "\n" or " " <= sign <= "~" for sign in text), path.name)
+            self.assertTrue(text.endswith("\n") and not text.endswith("\n\n"), path.name)
+            self.assertLessEqual(len(text.splitlines()), 399, path.name)
+            for line in text.splitlines():
+                self.assertLessEqual(len(line), 120, (path.name, line))
+                self.assertEqual(line, line.rstrip(), path.name)
+
+    def test_imports(self):
+        imports = {}
+        for place, node in self.each(ast.Import, ast.ImportFrom):
+            self.assertIsInstance(node, ast.ImportFrom, place)
+            self.assertEqual(node.level, 0, place)
+            self.assertRegex(node.module, r"^guestsalone\.\w+$", place)
+            file = PACKAGE / (node.module.split(".")[1] + ".py")
+            defined = [name for top in ast.parse(file.read_text()).body for name in
+                       ([top.name] if hasattr(top, "name") else [goal.id for goal in getattr(top, "targets", [])])]
+            for found in node.names:
+                self.assertIn(found.name, defined, place)
+            imports.setdefault(place.split(":")[0][:-3], set()).add(node.module.split(".")[1])
+        self.assertEqual(self.ordered(imports), set(imports))
+
+    def ordered(self, imports):
+        """The files whose imports lead to no circle."""
+        done = set()
+        while True:
+            more = {name for name in imports if name not in done and all(
+                other in done or other not in imports for other in imports[name])}
+            if not more:
+                return done
+            done |= more
+
+    def test_module_level(self):
+        for path in FILES:
+            body = ast.parse(path.read_text()).body
+            names = [name for node in body for name in
+                     (bound(node) or [goal.id for goal in getattr(node, "targets", [])])]
+            self.assertEqual(len(names), len(set(names)), path.name)
+            for node in body:
+                doc = isinstance(node, ast.Expr) and isinstance(node.value, ast.Constant)
+                self.assertTrue(doc or isinstance(node, (ast.ImportFrom, ast.FunctionDef, ast.ClassDef, ast.Assign)))
+            seen = set()
+            for node in body:
+                if isinstance(node, ast.Assign):
+                    for found in ast.walk(node.value):
+                        self.assertNotIsInstance(found, (ast.Call, ast.ListComp, ast.Set, ast.Lambda), path.name)
+                        if isinstance(found, ast.Name):
+                            self.assertIn(found.id, seen, path.name)
+                seen.update(bound(node))
+
+    def test_functions_are_short_and_plain(self):
+        for place, node in self.each(ast.FunctionDef):
+            self.assertLessEqual(node.end_lineno - node.lineno + 1, 40, place)
+            self.assertEqual(node.decorator_list, [], place)
+            if node.name.startswith("__"):
+                self.assertIn(node.name, DOUBLE, place)
+
+    def test_statements(self):
+        for place, node in self.each(*STATEMENTS):
+            self.fail(place)
+        for place, node in self.each(ast.Constant):
+            self.assertNotIsInstance(node.value, (float, complex), place)
+        for place, node in self.each(ast.Div):
+            self.fail(place)
+        for place, node in self.each(ast.BinOp):
+            self.assertNotIsInstance(node.op, ast.Pow, place)
+
+    def test_names(self):
+        for place, node in self.each():
+            for name in bound(node):
+                self.assertNotIn(name, BARRED, place)
+                if name not in DOUBLE:
+                    self.assertRegex(name, r"^_?[A-Za-z]\w*$|^_$", place)
+                    self.assertFalse(name.startswith(STARTS), place)
+            if isinstance(node, ast.Name) and isinstance(node.ctx, ast.Load):
+                self.assertNotEqual(node.id, "_", place)
+
+    def test_no_name_of_a_builtin_or_an_import_is_given_another_meaning(self):
+        for path in FILES:
+            tree = ast.parse(path.read_text())
+            parents = parents_of(tree)
+            heads = [node for node in tree.body if isinstance(node, (ast.ImportFrom, ast.ClassDef))]
+            tops = {name for node in heads for name in bound(node)}
+            for node in ast.walk(tree):
+                if node in heads:
+                    continue
+                if isinstance(node, ast.FunctionDef) and isinstance(parents[node], ast.ClassDef):
+                    continue
+                for name in bound(node):
+                    self.assertNotIn(name, PYTHONS, path.name)
+                    self.assertNotIn(name, tops, path.name)
+
+    def test_builtins(self):
+        for path in FILES:
+            tree = ast.parse(path.read_text())
+            known = {name for node in ast.walk(tree) for name in bound(node)}
+            for node in ast.walk(tree):
+                if isinstance(node, ast.Name) and node.id not in known:
+                    self.assertIn(node.id, BUILTINS, path.name)
+
+    def test_methods(self):
+        own = {node.name for _, node in self.each(ast.FunctionDef)}
+        for place, node in self.each(ast.Call):
+            if isinstance(node.func, ast.Attribute):
+                self.assertIn(node.func.attr, METHODS | own | {"__init__"}, place)
+
+    def test_what_is_iterated_at_once(self):
+        for path in FILES:
+            tree = ast.parse(path.read_text())
+            parents = parents_of(tree)
+            for node in ast.walk(tree):
+                if not isinstance(node, ast.Call):
+                    continue
+                named = isinstance(node.func, ast.Name) and node.func.id in AT_ONCE
+                if named or (isinstance(node.func, ast.Attribute) and node.func.attr in ("items", "keys", "values")):
+                    holder = parents[node]
+                    taken = isinstance(holder, ast.Call) and getattr(holder.func, "id", "") in (
+                        "list", "tuple", "dict", "sorted", "enumerate", "zip")
+                    self.assertTrue(taken or isinstance(holder, (ast.For, ast.comprehension)), (path.name, node.lineno))
+
+    def test_no_generator_expressions_and_no_sets_that_are_kept(self):
+        for place, node in self.each(ast.GeneratorExp, ast.Yield, ast.YieldFrom):
+            self.fail(place)
+        for path in FILES:
+            tree = ast.parse(path.read_text())
+            parents = parents_of(tree)
+            for node in ast.walk(tree):
+                if isinstance(node, (ast.Set, ast.SetComp)):
+                    self.assertIn(getattr(getattr(parents[node], "func", None), "id", ""), ("sorted", "len"), path.name)
+
+    def test_strings(self):
+        for place, node in self.each(ast.Constant):
+            if isinstance(node.value, str):
+                self.assertNotIn("%", node.value, place)
+                self.assertFalse(node.value.endswith(("._", ".__")), place)
+                self.assertNotRegex(node.value, r"\btype\b|dataclass|overload|contextmanager", place)
+
+    def test_classes(self):
+        for place, node in self.each(ast.ClassDef):
+            self.assertEqual(node.decorator_list + node.keywords, [], place)
+            methods = [found.name for found in node.body if isinstance(found, ast.FunctionDef)]
+            self.assertEqual(len(methods), len(set(methods)), place)
+            attributes = {found.attr for found in ast.walk(node) if isinstance(found, ast.Attribute)
+                          and isinstance(found.ctx, ast.Store)}
+            self.assertEqual(attributes & set(methods), set(), place)
+
+    def test_is(self):
+        for place, node in self.each(ast.Compare):
+            for sign, other in zip(node.ops, node.comparators):
+                if isinstance(sign, (ast.Is, ast.IsNot)):
+                    self.assertIsInstance(other, ast.Constant, place)
+
+    def test_every_attribute_that_is_read_is_assigned(self):
+        stored = {node.attr for _, node in self.each(ast.Attribute) if isinstance(node.ctx, ast.Store)}
+        own = {node.name for _, node in self.each(ast.FunctionDef)}
+        for place, node in self.each(ast.Attribute):
+            self.assertIn(node.attr, stored | own | METHODS, place)
+
+
+if __name__ == "__main__":
+    unittest.main()
