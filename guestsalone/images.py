@@ -38,12 +38,33 @@ def read_image(text):
     """The image that a text tells."""
     if not isinstance(text, str):
         raise NoText(text)
+    return image_in(cut_rows(text))
+
+
+def cut_rows(text):
+    """The rows of a text that are not all blanks: tuples of the row's number and its words."""
     rows = []
     for at, row in enumerate(text.split("\n")):
         parts = [part for part in row.split(" ") if part != ""]
         if parts:
             rows.append((at, parts))
-    return _image_in(rows)
+    return rows
+
+
+def image_in(rows):
+    """The image that rows tell, tuples of the row's number and its words."""
+    told = {"room": {}, "block": {}}
+    words = None
+    for at, parts in rows:
+        number = _number_begun(parts)
+        if number is not None:
+            words = told[parts[0]].setdefault(number, [])
+            continue
+        word = _word_in(parts)
+        if word is None or words is None or len(words) == EIGHT:
+            raise NoRow(at)
+        words.append(word)
+    return _filled(told["room"]), _filled(told["block"])
 
 
 def _is_row(thing):
@@ -89,22 +110,6 @@ def _code_row(word):
 
 def _word_row(word):
     return f"word {word}"
-
-
-def _image_in(rows):
-    """The image that rows tell, tuples of the row's number and its parts."""
-    told = {"room": {}, "block": {}}
-    words = None
-    for at, parts in rows:
-        number = _number_begun(parts)
-        if number is not None:
-            words = told[parts[0]].setdefault(number, [])
-            continue
-        word = _word_in(parts)
-        if word is None or words is None or len(words) == EIGHT:
-            raise NoRow(at)
-        words.append(word)
-    return _filled(told["room"]), _filled(told["block"])
 
 
 def _number_begun(parts):

@@ -81,12 +81,7 @@ class PlainMachine:
         return list(self._trail)
 
     def twin(self):
-        other = PlainMachine(image_of())
-        other._core = self._core.twin()
-        other._store = self._store.twin()
-        other._log = list(self._log)
-        other._trail = list(self._trail)
-        return other
+        return machine_of(self._core, self._store.rooms(), self._log, self._trail)
 
 
 def is_log(thing):
@@ -104,7 +99,28 @@ def run_alone(image, log=(), *, end=100):
     machine = PlainMachine(image)
     if not is_log(log):
         raise NoLog(log)
-    check_number(end, 0, LAST_END)
+    check_end(end)
+    run_by(machine, log, end)
+    return machine
+
+
+def machine_of(core, rooms, log, trail):
+    """A machine that stands so, with what came to it and what its steps told."""
+    machine = PlainMachine(image_of())
+    machine._core = core.twin()
+    machine._store = PlainStore(rooms)
+    machine._log = list(log)
+    machine._trail = list(trail)
+    return machine
+
+
+def check_end(thing):
+    """Refuses what is no end of a run alone."""
+    check_number(thing, 0, LAST_END)
+
+
+def run_by(machine, log, end):
+    """Lets a machine run by a log until it has come to the end, stands still, or is idle."""
     come = 0
     while machine.state() not in ("ended", "fell"):
         while come < len(log) and log[come][0] <= machine.time():
@@ -112,9 +128,8 @@ def run_alone(image, log=(), *, end=100):
             machine.arrive(kind, word)
             come += 1
         if machine.time() >= end or machine.state() == "idle":
-            return machine
+            return
         machine.step()
-    return machine
 
 
 def _is_arrival(thing):

@@ -3,7 +3,7 @@
 import random
 
 from guestsalone.codes import OPS, entry
-from tests.helpers import op, rows
+from tests.helpers import op, rooms_with, rows
 
 COMMON = ["set", "load", "save", "from", "into", "add", "sub", "part", "jump", "base", "trap", "time", "out", "in",
           "out", "in", "set", "out"]
@@ -46,3 +46,35 @@ def any_log(chance, many=30, last=300):
         kind = chance.choice(["line", "net"])
         log.append((time, kind, chance.randrange(128 if kind == "line" else 4096)))
     return log
+
+
+LIVELY = ["set"] * 5 + ["load"] * 3 + ["save"] * 5 + ["from", "add", "add", "sub", "part", "time", "in", "in", "jump",
+                                                    "trap", "out", "out", "out", "ask", "ask", "wait"]
+
+
+def lively_word(chance, place):
+    name, which = chance.choice(LIVELY), chance.randrange(4)
+    if name == "save":
+        return op("save", which, chance.randrange(40, 56))
+    if name == "jump":
+        return op("jump", which, chance.randrange(place, 38))
+    if name == "trap":
+        return op("trap", chance.choice([2, 3]), 0)
+    if name == "out":
+        return op("out", which, chance.choice([0, 1]))
+    if name == "ask":
+        return op("out", which, 2 if chance.random() < 0.05 else 3)
+    return op(name, which, chance.randrange(64))
+
+
+def lively_image(chance):
+    """An image that seldom falls: a loop that writes the rooms 6 and 7, with a handler that goes back."""
+    words = [op("trap", 0, 38)] + [lively_word(chance, place) for place in range(1, 37)]
+    words += [op("jump", 0, 1), op("set", chance.randrange(4), 1 + chance.randrange(9)), op("trap", 1, 0)]
+    blocks = {number: [any_word(chance) for _ in range(8)] for number in range(8)}
+    return rooms_with(words), rows(blocks)
+
+
+def some_image(chance):
+    """A wild one or a lively one."""
+    return any_image(chance) if chance.random() < 0.3 else lively_image(chance)

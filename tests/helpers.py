@@ -60,7 +60,11 @@ class Case(unittest.TestCase):
         self.assertIs(type(caught.exception), error)
         self.assertEqual(set(vars(caught.exception)), set(fields))
         for name, thing in fields.items():
-            self.assertIs(getattr(caught.exception, name), thing)
+            told = getattr(caught.exception, name)
+            if name == "found":
+                self.assertIs(told, thing)
+            else:
+                self.assertEqual((told, type(told)), (thing, int))
 
     def refused_found(self, error, found, call, *args, **named):
         self.refused(error, {"found": found}, call, *args, **named)

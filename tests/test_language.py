@@ -206,6 +206,33 @@ class LanguageTest(unittest.TestCase):
                           and isinstance(found.ctx, ast.Store)}
             self.assertEqual(attributes & set(methods), set(), place)
 
+    def test_attributes_are_assigned_through_a_local_name_and_are_no_methods(self):
+        own = {found.name for _, node in self.each(ast.ClassDef) for found in node.body
+               if isinstance(found, ast.FunctionDef)}
+        for place, node in self.each(ast.Attribute):
+            if isinstance(node.ctx, ast.Store):
+                self.assertIsInstance(node.value, ast.Name, place)
+                self.assertNotIn(node.attr, own, place)
+
+    def test_double_underscore_methods_assign_nothing(self):
+        for place, node in self.each(ast.FunctionDef):
+            if node.name in ("__eq__", "__len__"):
+                for found in ast.walk(node):
+                    self.assertNotIsInstance(found, (ast.Assign, ast.AugAssign, ast.NamedExpr, ast.Delete), place)
+                last = node.body[-1]
+                self.assertIsInstance(last, ast.Return, place)
+                if node.name == "__len__":
+                    self.assertRegex(ast.unparse(last), r"^return len\(.*\)$", place)
+
+    def test_errors_are_raised_on_the_spot_and_own_ones_are_caught(self):
+        for place, node in self.each(ast.Raise):
+            self.assertIsInstance(node.exc, ast.Call, place)
+            self.assertRegex(node.exc.func.id, r"^[A-Z]", place)
+        for place, node in self.each(ast.ExceptHandler):
+            names = node.type.elts if isinstance(node.type, ast.Tuple) else [node.type]
+            for name in names:
+                self.assertNotIn(name.id, PYTHONS, place)
+
     def test_is(self):
         for place, node in self.each(ast.Compare):
             for sign, other in zip(node.ops, node.comparators):
