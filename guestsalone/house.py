@@ -49,6 +49,12 @@ class Guest:
         )
 
 
+def new_guest(image):
+    """A guest of an image that did no step, and to which nothing came."""
+    rooms, blocks = image
+    return Guest(Core(blocks), rooms, (), ())
+
+
 class Lodger:
     """What a house has of a guest beside its rooms, its shares and its place in the queue."""
 
@@ -79,7 +85,7 @@ class House:
         check_name(name)
         if not is_image(image):
             raise NoImage(image)
-        self._take_in(name, Guest(Core(image[1]), image[0], (), ()), promise, ceiling)
+        self._take_in(name, new_guest(image), promise, ceiling)
 
     def bring(self, name, guest, *, promise=1, ceiling=None):
         """A guest comes that left a house, or was kept."""

@@ -38,17 +38,17 @@ def read_image(text):
     """The image that a text tells."""
     if not isinstance(text, str):
         raise NoText(text)
-    return image_in(cut_rows(text))
+    return image_in(cut_rows(text.split("\n")))
 
 
-def cut_rows(text):
-    """The rows of a text that are not all blanks: tuples of the row's number and its words."""
-    rows = []
-    for at, row in enumerate(text.split("\n")):
+def cut_rows(rows, *, first=0):
+    """Of rows, numbered from the first one on, those that are not all blanks: tuples of number and words."""
+    cut = []
+    for at, row in enumerate(rows, start=first):
         parts = [part for part in row.split(" ") if part != ""]
         if parts:
-            rows.append((at, parts))
-    return rows
+            cut.append((at, parts))
+    return cut
 
 
 def image_in(rows):

@@ -2,7 +2,7 @@
 
 from guestsalone.checks import check_guest, check_number
 from guestsalone.errors import Doubled, Full, NoHouse, NotMoving, TooMuch
-from guestsalone.house import Guest, check_house
+from guestsalone.house import Guest, House, check_house
 from guestsalone.images import EIGHT, image_of
 from guestsalone.roads import Road
 from guestsalone.rooms import NOUGHTS
@@ -139,6 +139,26 @@ class Move:
             return SOURCE
         return GOAL if self._goal.has_begun() else None
 
+    def between(self, source, goal):
+        """A Move that stands as this one, between twins of its houses."""
+        other = _spare_move(self._name)
+        other._source = source
+        other._goal = self._goal.within(goal)
+        other._most = self._most
+        other._patience = self._patience
+        other._road = self._road.twin()
+        other._phase = self._phase
+        other._rounds = self._rounds
+        other._put_in = list(self._put_in)
+        other._put_words = list(self._put_words)
+        other._had = list(self._had)
+        other._stopped_at = self._stopped_at
+        other._was_stopped = self._was_stopped
+        other._cores = dict(self._cores)
+        other._gone = self._gone
+        other._given = self._given
+        return other
+
     def _begin(self, *phases):
         """What goes ahead of a deed; no turn passes within one, so that nothing else would be seen behind it."""
         if self.stopped_for() > self._patience:
@@ -205,6 +225,16 @@ class GoalSide:
             return False
         return True
 
+    def within(self, house):
+        """The same, of a twin of the house."""
+        other = GoalSide(house, self._name, self._promise, self._ceiling)
+        other._rooms = dict(self._rooms)
+        other._core = self._core
+        other._wholes = dict(self._wholes)
+        other._begun = self._begun
+        other._off = self._off
+        return other
+
     def answers(self, letter, gone):
         """The letters that are put when this one comes; gone is the guest that left, if it did."""
         if letter[0] == "off":
@@ -251,6 +281,13 @@ class GoalSide:
     def _round_of(self, room):
         """The round of the letter that is here of a room, or 0."""
         return self._rooms[room][0] if room in self._rooms else NEVER
+
+
+def _spare_move(name):
+    """A Move of houses of its own, to be made another one."""
+    source = House(1)
+    source.come(name, image_of())
+    return Move(source, House(1), name)
 
 
 def _text_without_rooms(guest):

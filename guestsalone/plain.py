@@ -88,7 +88,7 @@ def is_log(thing):
     """Whether it is a list of at most 2,400 arrivals whose times never fall."""
     if not isinstance(thing, (list, tuple)) or len(thing) > LONGEST_LOG:
         return False
-    if not all([_is_arrival(row) for row in thing]):
+    if not all([is_arrival(row) for row in thing]):
         return False
     times = [row[0] for row in thing]
     return times == sorted(times)
@@ -121,18 +121,23 @@ def check_end(thing):
 
 def run_by(machine, log, end):
     """Lets a machine run by a log until it has come to the end, stands still, or is idle."""
-    come = 0
-    while machine.state() not in ("ended", "fell"):
-        while come < len(log) and log[come][0] <= machine.time():
-            _, kind, word = log[come]
-            machine.arrive(kind, word)
-            come += 1
-        if machine.time() >= end or machine.state() == "idle":
-            return
+    come = arrived(machine, log, 0)
+    while machine.time() < end and machine.state() == "runs":
         machine.step()
+        come = arrived(machine, log, come)
 
 
-def _is_arrival(thing):
+def arrived(machine, log, come):
+    """Lets all that is due of a log come to a machine, behind what came; tells how much has come then."""
+    while come < len(log) and log[come][0] <= machine.time() and machine.state() not in ("ended", "fell"):
+        _, kind, word = log[come]
+        machine.arrive(kind, word)
+        come += 1
+    return come
+
+
+def is_arrival(thing):
+    """Whether it is a tuple of a time, a kind, and a word that may arrive so."""
     if not isinstance(thing, tuple) or len(thing) != 3:
         return False
     time, kind, word = thing

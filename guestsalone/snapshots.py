@@ -27,10 +27,14 @@ def cloned(house, guest, name, *, promise=1, ceiling=None):
 def run_on(guest, log=(), *, end=100):
     """The guest that a snapshot is when it has gone on alone by the log."""
     check_snapshot(guest)
-    core = guest.core()
-    if not is_log(log) or (len(log) > 0 and log[0][0] < core.time()):
+    if not is_log(log) or (len(log) > 0 and log[0][0] < guest.core().time()):
         raise NoLog(log)
     check_end(end)
-    machine = machine_of(core, guest.rooms(), guest.log(), guest.trail())
+    return gone_on(guest, log, end)
+
+
+def gone_on(guest, log, end):
+    """The guest that has gone on alone by a log to an end, however late that is."""
+    machine = machine_of(guest.core(), guest.rooms(), guest.log(), guest.trail())
     run_by(machine, log, end)
     return Guest(machine.core(), machine.store().rooms(), machine.log(), machine.trail())

@@ -61,8 +61,9 @@ class RowReader:
     """The rows of a text, taken one by one."""
 
     def __init__(self, text):
-        self._rows = cut_rows(text)
-        self._many = text.count("\n") + 1
+        rows = text.split("\n")
+        self._rows = cut_rows(rows)
+        self._many = len(rows)
         self._taken = 0
 
     def row(self, word, bounds):

@@ -1,6 +1,8 @@
 """Whole numbers, words, names, and numbers that are written as figures."""
 
 MOST = 4095
+SHORT = 6
+LONG = 30
 
 
 def is_count(thing):
@@ -25,12 +27,25 @@ def is_name(thing):
 
 def number_in(thing, *, least=0, most=MOST):
     """The number from least to most that a text writes by one to six figures, else None."""
-    if not isinstance(thing, str) or not 1 <= len(thing) <= 6 or not _all_within(thing, "0", "9"):
+    number = _written(thing, SHORT)
+    return number if number is not None and least <= number <= most else None
+
+
+def long_number_in(thing):
+    """The number that a text writes by one to thirty figures, else None."""
+    return _written(thing, LONG)
+
+
+def are_signs(thing):
+    """Whether it is a text of signs from the blank to the tilde."""
+    return isinstance(thing, str) and _all_within(thing, " ", "~")
+
+
+def _written(thing, figures):
+    """The number that a text writes by so many figures at most, without a 0 ahead of others, else None."""
+    if not isinstance(thing, str) or not 1 <= len(thing) <= figures or not _all_within(thing, "0", "9"):
         return None
-    if len(thing) > 1 and thing.startswith("0"):
-        return None
-    number = int(thing)
-    return number if least <= number <= most else None
+    return int(thing) if len(thing) == 1 or not thing.startswith("0") else None
 
 
 def _all_within(text, first, last):

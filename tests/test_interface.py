@@ -17,6 +17,12 @@ shares: first_broken(length, guests, ready, dealt)
 snapshots: snapshot_of(house, name); put_back(house, name, guest)
 snapshots: cloned(house, guest, name, *, promise=1, ceiling=None); run_on(guest, log=(), *, end=100)
 snaptext: guest_text(guest); read_guest(text)
+logtext: log_text(log); trail_text(trail); read_log(text); read_trail(text)
+deeds: is_deed(thing); do(world, deed); history_text(world); read_history(text); replayed(text)
+papers: walked(image, log, trail); parted(house, name, other, other_name); pair_told(text, other, name)
+papers: stops_of(house, name); greatest_stop(house, name)
+touching: leads(rooms, table); touched(image, log=(), *, end=100)
+lines: read_line(line)
 """
 METHODS = """
 core Core: __init__(blocks); step(store); arrive(kind, word); registers(); told(); sent(); asks(); queue(kind)
@@ -44,6 +50,12 @@ roads Road: __init__(); put(side, letter); come(number); lose(number); double(nu
 moves Move: __init__(source, goal, name, *, most=2, patience=8, promise=1, ceiling=None); one_round(); stop(); again()
 moves Move: call_off(); come(number); lose(number); double(number); look(); phase(); rounds(); stopped_for()
 moves Move: letters(); unsure(); runs_at()
+world World: __init__(houses); come(house, name, image, *, port, promise=1, ceiling=None); keep(name, *, whole=False)
+world World: say(name, text); fall(house); rise(house); come_up(name, house, *, promise=1, ceiling=None)
+world World: move(name, house, *, most=2, patience=8, promise=1, ceiling=None); turns(house, many=1)
+world World: move_deed(name, word, number=None); made(); houses(); standing(); names(); told(name); letters(name)
+world World: posted(port); deeds(); where(name); phase(name); port(name); kept(name); house(name); twin()
+desk Desk: __init__(); say(line); say_all(lines); told()
 """
 
 

@@ -40,6 +40,8 @@ def bound(node):
         return [node.arg]
     if isinstance(node, ast.Name) and not isinstance(node.ctx, ast.Load):
         return [node.id]
+    if isinstance(node, ast.ExceptHandler):
+        return [node.name] if node.name else []
     if isinstance(node, ast.ImportFrom):
         return [found.asname or found.name for found in node.names]
     return []
@@ -225,9 +227,13 @@ class LanguageTest(unittest.TestCase):
                     self.assertRegex(ast.unparse(last), r"^return len\(.*\)$", place)
 
     def test_errors_are_raised_on_the_spot_and_own_ones_are_caught(self):
-        for place, node in self.each(ast.Raise):
-            self.assertIsInstance(node.exc, ast.Call, place)
-            self.assertRegex(node.exc.func.id, r"^[A-Z]", place)
+        for path in FILES:
+            tree = ast.parse(path.read_text())
+            handled = [row for node in ast.walk(tree) if isinstance(node, ast.ExceptHandler) for row in node.body]
+            for node in ast.walk(tree):
+                if isinstance(node, ast.Raise) and not (node.exc is None and node in handled):
+                    self.assertIsInstance(node.exc, ast.Call, (path.name, node.lineno))
+                    self.assertRegex(node.exc.func.id, r"^[A-Z]", (path.name, node.lineno))
         for place, node in self.each(ast.ExceptHandler):
             names = node.type.elts if isinstance(node.type, ast.Tuple) else [node.type]
             for name in names:
