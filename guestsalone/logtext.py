@@ -8,7 +8,7 @@ from guestsalone.words import MOST, is_count, is_whole, long_number_in
 LONGEST_TEXT = 200000
 NO_THING = ("step", "ended")
 # Of kinds whose thing is a number from a least to a most.
-BOUNDS = {"trap": (1, 4), "fell": (1, 4), "told": (0, 127), "read": (0, MOST), "clock": (0, MOST)}
+BOUNDS = {"trap": (1, 4), "fell": (1, 4), "told": (0, 127), "read": (0, 4095), "clock": (0, 4095)}
 LAST_PORT = 7
 
 
@@ -130,6 +130,4 @@ def _is_ask(thing):
     if not isinstance(thing, tuple) or len(thing) != 4:
         return False
     number, kind, block, room = thing
-    if not isinstance(kind, str) or kind not in ("read", "write"):
-        return False
-    return is_count(number) and is_whole(block, 0, 7) and is_whole(room, 0, 7)
+    return is_count(number) and kind in ("read", "write") and is_whole(block, 0, 7) and is_whole(room, 0, 7)

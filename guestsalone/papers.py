@@ -1,6 +1,5 @@
 """Papers of runs: where trails and histories part, and how long guests stood still."""
 
-from guestsalone.checks import check_guest
 from guestsalone.deeds import replayed
 from guestsalone.errors import NoLog, NotKept
 from guestsalone.house import check_house
@@ -68,13 +67,8 @@ def _is_same(thing, row):
         if not isinstance(thing, tuple) or len(thing) != len(row):
             return False
         return all([_is_same(part, other) for part, other in zip(thing, row)])
-    if isinstance(thing, bool):
-        return False
-    if isinstance(row, int):
-        return isinstance(thing, int) and thing == row
-    if isinstance(row, str):
-        return isinstance(thing, str) and thing == row
-    return thing is None
+    # A truth is equal to 0 or 1, but stands for no number.
+    return not isinstance(thing, bool) and thing == row
 
 
 def _trail_of(house, name):

@@ -137,9 +137,7 @@ class World:
     def move_deed(self, name, word, number=None):
         """Does a deed of a guest's Move; tells what that tells."""
         self._keeping(name)
-        if not isinstance(word, str) or word not in ALONE + NUMBERED:
-            raise NoDeed(word)
-        if word in ALONE and number is not None:
+        if word not in ALONE + NUMBERED or (word in ALONE and number is not None):
             raise NoDeed(word)
         told = _moved(self._move(name), word, number)
         self._forget_if_over(name)
@@ -204,13 +202,15 @@ class World:
         return list(self._deeds)
 
     def twin(self):
+        houses = {name: None if there is None else there.twin() for name, there in self._houses.items()}
         other = World(self._made)
-        for name, there in self._houses.items():
-            other._houses[name] = None if there is None else there.twin()
+        other._houses = houses
         other._switch = self._switch.twin()
         other._keepings = {name: keeping.twin() for name, keeping in self._keepings.items()}
-        for name, (move, source, goal) in self._moves.items():
-            other._moves[name] = (move.between(other._houses[source], other._houses[goal]), source, goal)
+        other._moves = {
+            name: (move.between(houses[source], houses[goal]), source, goal)
+            for name, (move, source, goal) in self._moves.items()
+        }
         other._deeds = list(self._deeds)
         return other
 

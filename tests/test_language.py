@@ -23,6 +23,8 @@ BARRED = set(
     " methodcaller os quit setattr super type vars sys typing enum Enum ABC namedtuple NamedTuple Protocol Generic"
     " Flag".split()
 )
+# None of these is a name, also not with figures or strokes behind it.
+OUTSIDE = r"^(_cold|_tuplegetter|_outside|_record|_written_out|_member_names)[0-9_]*$"
 STARTS = ("_wall", "_pe_", "_dcw_", "_enum_", "_cm_", "_twin_re_", "_lay_", "_law_", "_stub_", "_sre")
 AT_ONCE = {"zip", "enumerate", "reversed", "range", "map"}
 STATEMENTS = (ast.Global, ast.AsyncFunctionDef, ast.AsyncFor, ast.AsyncWith, ast.Await, ast.TryStar)
@@ -136,6 +138,7 @@ class LanguageTest(unittest.TestCase):
                 if name not in DOUBLE:
                     self.assertRegex(name, r"^_?[A-Za-z]\w*$|^_$", place)
                     self.assertFalse(name.startswith(STARTS), place)
+                    self.assertNotRegex(name, OUTSIDE, place)
             if isinstance(node, ast.Name) and isinstance(node.ctx, ast.Load):
                 self.assertNotEqual(node.id, "_", place)
 
@@ -199,6 +202,27 @@ class LanguageTest(unittest.TestCase):
                 self.assertFalse(node.value.endswith(("._", ".__")), place)
                 self.assertNotRegex(node.value, r"\btype\b|dataclass|overload|contextmanager", place)
 
+    def test_patterns_are_plain_and_the_last_case_takes_everything(self):
+        for place, node in self.each(ast.Match):
+            for case in node.cases[:-1]:
+                self.assertIsInstance(case.pattern, ast.MatchValue, place)
+                self.assertIsInstance(case.pattern.value, ast.Constant, place)
+            self.assertIsInstance(node.cases[-1].pattern, ast.MatchAs, place)
+
+    def test_what_stands_behind_a_star_is_a_name(self):
+        for place, node in self.each(ast.Starred):
+            self.assertIsInstance(node.value, ast.Name, place)
+
+    def test_tables_at_module_level_are_read_alone(self):
+        for path in FILES:
+            tree = ast.parse(path.read_text())
+            tables = [goal.id for node in tree.body if isinstance(node, ast.Assign) and isinstance(node.value, ast.Dict)
+                      for goal in node.targets]
+            parents = parents_of(tree)
+            for node in ast.walk(tree):
+                if isinstance(node, ast.Name) and node.id in tables and isinstance(node.ctx, ast.Load):
+                    self.assertIsInstance(parents[node], (ast.Subscript, ast.Compare), (path.name, node.lineno))
+
     def test_classes(self):
         for place, node in self.each(ast.ClassDef):
             self.assertEqual(node.decorator_list + node.keywords, [], place)
@@ -212,6 +236,7 @@ class LanguageTest(unittest.TestCase):
         own = {found.name for _, node in self.each(ast.ClassDef) for found in node.body
                if isinstance(found, ast.FunctionDef)}
         for place, node in self.each(ast.Attribute):
+            self.assertNotRegex(node.attr, OUTSIDE, place)
             if isinstance(node.ctx, ast.Store):
                 self.assertIsInstance(node.value, ast.Name, place)
                 self.assertNotIn(node.attr, own, place)

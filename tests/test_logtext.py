@@ -13,7 +13,7 @@ ALL_KINDS = [
     ((3, "told", 1, 127), "3 told 1 127"), ((9, "sent", 20, (3, 4095)), "9 sent 20 3 4095"),
     ((9, "asked", 5, (0, "read", 7, 0)), "9 asked 5 0 read 7 0"),
     ((9, "asked", 5, (12, "write", 0, 7)), "9 asked 5 12 write 0 7"), ((9, "asked", 5, None), "9 asked 5"),
-    ((9, "read", 6, 4095), "9 read 6 4095"), ((10, "clock", 7, 0), "10 clock 7 0"),
+    ((9, "read", 6, 4095), "9 read 6 4095"), ((10, "clock", 7, 0), "10 clock 7 0"), ((10, "clock", 7, 4095), "10 clock 7 4095"),
     ((11, "waited", 8, 99), "11 waited 8 99"), ((100, "ended", 63, None), "100 ended 63"),
     ((GREATEST, "waited", 0, GREATEST), f"{GREATEST} waited 0 {GREATEST}"),
     ((GREATEST, "asked", 0, (GREATEST, "read", 1, 2)), f"{GREATEST} asked 0 {GREATEST} read 1 2"),
@@ -29,14 +29,16 @@ NO_ROWS = [
     (0, "trap", 0, 0), (0, "trap", 0, 5), (0, "trap", 0, True), (0, "trap", 0, None), (0, "trap", 0, (1,)),
     (0, "fell", 0, 0), (0, "fell", 0, 5), (0, "fell", 0, "1"),
     (0, "told", 0, 128), (0, "told", 0, -1), (0, "told", 0, None), (0, "told", 0, False),
-    (0, "read", 0, 4096), (0, "read", 0, -1), (0, "read", 0, None), (0, "clock", 0, 4096), (0, "clock", 0, (1,)),
+    (0, "read", 0, 4096), (0, "read", 0, -1), (0, "read", 0, None), (0, "clock", 0, 4096), (0, "clock", 0, -1), (0, "clock", 0, (1,)),
     (0, "waited", 0, -1), (0, "waited", 0, None), (0, "waited", 0, True), (0, "waited", 0, "9"),
-    (0, "sent", 0, None), (0, "sent", 0, 3), (0, "sent", 0, (3,)), (0, "sent", 0, (8, 0)), (0, "sent", 0, (0, 4096)),
+    (0, "sent", 0, None), (0, "sent", 0, 3), (0, "sent", 0, (3,)), (0, "sent", 0, (8, 0)), (0, "sent", 0, (-1, 0)),
+    (0, "sent", 0, (0, 4096)), (0, "sent", 0, (0, -1)),
     (0, "sent", 0, [3, 4]), (0, "sent", 0, (3, 4, 5)), (0, "sent", 0, (True, 4)), (0, "sent", 0, (3, None)),
     (0, "asked", 0, 1), (0, "asked", 0, ()), (0, "asked", 0, [0, "read", 0, 0]), (0, "asked", 0, (0, "read", 0)),
     (0, "asked", 0, (0, "read", 0, 0, 6)), (0, "asked", 0, (-1, "read", 0, 0)), (0, "asked", 0, (0, "told", 0, 0)),
     (0, "asked", 0, (0, None, 0, 0)), (0, "asked", 0, (0, ["read"], 0, 0)), (0, "asked", 0, (0, "read", 8, 0)),
-    (0, "asked", 0, (0, "write", 0, 8)), (0, "asked", 0, (True, "read", 0, 0)), (0, "asked", 0, False),
+    (0, "asked", 0, (0, "write", 0, 8)), (0, "asked", 0, (0, "write", -1, 0)), (0, "asked", 0, (0, "write", 0, -1)),
+    (0, "asked", 0, (True, "read", 0, 0)), (0, "asked", 0, False),
 ]
 # Texts of rows that no trail has.
 NO_TRAIL_ROWS = [

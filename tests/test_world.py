@@ -538,6 +538,27 @@ class ComeUpTest(Case):
         world.come_up("ann", "west")
         self.assertTrue(world.house("west").leave("ann") == kept)
 
+    def test_one_that_is_idle_in_its_snapshot_is_idle_and_runs_where_it_was_run_on(self):
+        for whole, state in ((True, "idle"), (False, "runs")):
+            world = world_of(("east", "ann", ECHO))
+            world.say("ann", "a")
+            world.turns("east", 6)
+            world.keep("ann", whole=whole)
+            world.fall("east")
+            world.come_up("ann", "west")
+            self.assertEqual((world.house("west").core("ann").state(), world.house("west").core("ann").time()), (state, 4))
+            self.assertEqual(world.turns("west", 2), [("ann", None) if not whole else (None, None), (None, None)])
+        # A later snapshot takes the place of an elder one; keeping without one lets it be.
+        world = world_of(("east", "ann", ECHO))
+        world.keep("ann", whole=True)
+        world.say("ann", "a")
+        world.turns("east", 6)
+        world.keep("ann", whole=True)
+        world.keep("ann")
+        world.fall("east")
+        world.come_up("ann", "west")
+        self.assertEqual(world.house("west").core("ann").state(), "idle")
+
     def test_beyond_the_ends_of_runs_alone(self):
         # In each three steps the time moves on by seven or more.
         waiter = image_with([op("out", 0, 3), op("wait"), op("jump", 0, 0)])

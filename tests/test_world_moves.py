@@ -1,7 +1,9 @@
 """Points 114 to 117: moves in a world."""
 
+from guestsalone.deeds import do
 from guestsalone.errors import (
-    Fallen, Full, Moving, NoDeed, NoGuest, NoHouse, NoNumber, NotKept, NotMoving, NotOnRoad, Standing, TooMuch,
+    Barred, Fallen, Full, GuestError, Missing, Moving, NoDeed, NoGuest, NoHouse, NoNumber, NotKept, NotMoving, NotOnRoad,
+    Standing, TooMuch,
 )
 from guestsalone.moves import Move
 from tests import test_house
@@ -325,6 +327,44 @@ class LookTest(Case):
         house = world.house("west")
         self.assertEqual([word for _, _, word in house.log("ann")], world.posted(0))
         self.assertEqual(house.trail("ann"), oracle_of(LISTENER, house.log("ann"), house.core("ann")).trail)
+
+
+class TwinTest(Case):
+    def outcome(self, world, deed):
+        try:
+            return do(world, deed)
+        except (GuestError, Missing, Barred) as refusal:
+            return type(refusal), vars(refusal)
+
+    def any_deed(self, chance, world):
+        letters = world.letters("ann") if world.phase("ann") else []
+        if letters and chance.random() < 0.75:
+            return "road", "ann", chance.choice(["come"] * 8 + ["lose", "double"]), chance.choice(letters)[0]
+        if chance.random() < 0.2:
+            return "turns", chance.choice(["east", "west"]), chance.randrange(1, 3)
+        return "road", "ann", chance.choice(["round", "round", "stop", "stop", "again", "look"]), None
+
+    def test_a_twin_goes_on_likewise_in_each_phase(self):
+        phases = {}
+        for seed in range(120):
+            chance = chance_of(seed)
+            world = world_of(("east", "ann", chance.choice([LOOP, WRITER, LISTENER])), ("west", "bob", LOOP))
+            world.turns("east", chance.randrange(1, 9))
+            world.move("ann", "west", most=chance.randrange(4), patience=chance.choice([1, 2, 20]), promise=chance.randrange(3),
+                       ceiling=chance.randrange(3, 9))
+            for _ in range(chance.randrange(45)):
+                self.outcome(world, self.any_deed(chance, world))
+            phases[world.phase("ann"), world.where("ann")] = phases.get((world.phase("ann"), world.where("ann")), 0) + 1
+            before = everything(world)
+            twin, other = world.twin(), world.twin()
+            for _ in range(40):
+                deed = self.any_deed(chance, world)
+                self.assertEqual(self.outcome(twin, deed), self.outcome(world, deed))
+                self.assertEqual(everything(twin), everything(world))
+            # What the twin of it did changed nothing in the other one.
+            self.assertEqual(everything(other), before)
+        for phase, where in (("rounds", "east"), ("stopped", "east"), ("given", None), ("given", "west"), (None, "west")):
+            self.assertGreater(phases.get((phase, where), 0), 2, (phase, where, phases))
 
 
 class FallTest(Case):
