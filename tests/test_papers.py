@@ -261,9 +261,10 @@ class PairTest(Case):
         for thing in (None, True, 0, GREATEST, [], (good,), {}, World(TWO)):
             self.refused_found(NoText, thing, pair_told, thing, None, None)
             self.refused_found(NoText, thing, pair_told, good, thing, None)
-        for text, at in (("", 0), (empty + "\nx", 1), (empty + "\nrise east", 1), (good + "\nrise east", 2 + 6 + 2)):
-            self.refused_row(at if text != good + "\nrise east" else len(good.split("\n")), text, None, None)
-            self.refused_row(at if text != good + "\nrise east" else len(good.split("\n")), good, text, None)
+        risen = good + "\nrise east"
+        for text, at in (("", 0), (empty + "\nx", 1), (empty + "\nrise east", 1), (risen, len(good.split("\n")))):
+            self.refused_row(at, text, None, None)
+            self.refused_row(at, good, text, None)
         # The first one is replayed ahead of the second one.
         self.refused_row(1, empty + "\nrise east", "x", None)
         for thing in NO_NAMES + ["bob"]:
